@@ -1,0 +1,1 @@
+"""Marks of which any two together have a sum of their own."""
