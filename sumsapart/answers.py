@@ -1,12 +1,6 @@
 """What is told of marks, and whether it is so."""
 
-
-def is_count(found, many):
-    """Tell whether this is the count of one of so many marks."""
-    # True and False are no numbers here, but Python would take them for 1 and 0.
-    if isinstance(found, bool) or not isinstance(found, int):
-        return False
-    return 0 <= found < many
+from sumsapart.arithmetic import is_count
 
 
 def is_pair(found, many):

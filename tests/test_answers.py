@@ -1,36 +1,11 @@
 """Promises [1] and [4] as far as they speak of the answers: Apart and Same."""
 
 import unittest
-from itertools import combinations, combinations_with_replacement, product
+from itertools import combinations, product
 
 from sumsapart import answers
 from sumsapart.answers import Answer, Apart, Same
-
-HUGE = 10 ** 300
-
-
-def plainly_apart(marks):
-    """Judge the marks by [1], word by word: each two unlike pairs are looked at."""
-    pairs = list(combinations_with_replacement(range(len(marks)), 2))
-    return all(
-        marks[a] + marks[b] != marks[c] + marks[d]
-        for (a, b), (c, d) in combinations(pairs, 2)
-    )
-
-
-def plainly_same(marks, one, other):
-    pairs = list(combinations_with_replacement(range(len(marks)), 2))
-    if one not in pairs or other not in pairs or one == other:
-        return False
-    return sum(marks[at] for at in one) == sum(marks[at] for at in other)
-
-
-def powers(base, many):
-    return [base ** k for k in range(many)]
-
-
-def of_prime(prime, many):
-    return [2 * prime * k + k * k % prime for k in range(many)]
+from tests.helper import HUGE, all_pairs, of_prime, plainly_apart, plainly_same, powers
 
 
 class AnswerCase(unittest.TestCase):
@@ -170,6 +145,11 @@ class SameShows(AnswerCase):
         for one, other in product(wrong, wrong):
             self.check(Same(one, other), [0, 1, 2], False)
 
+    def test_what_is_no_tuple(self):
+        self.check(Same([0, 2], (1, 1)), [0, 1, 2], False)
+        self.check(Same((0, 2), [1, 1]), [0, 1, 2], False)
+        self.check(Same([0, 2], [1, 1]), [0, 1, 2], False)
+
     def test_true_and_false_are_no_counts(self):
         self.check(Same((0, 2), (True, True)), [0, 1, 2], False)
         self.check(Same((0, 2), (1, True)), [0, 1, 2], False)
@@ -254,7 +234,7 @@ class AskedAgain(AnswerCase):
 class NeverBoth(AnswerCase):
     def test_apart_or_some_same_but_never_both(self):
         for many in range(6):
-            pairs = list(combinations_with_replacement(range(many), 2))
+            pairs = all_pairs(many)
             for marks in combinations(range(8), many):
                 marks = list(marks)
                 shown = any(Same(one, other).shows(marks) for one, other in product(pairs, pairs))
